@@ -1,0 +1,1 @@
+"""Gridknot: knots and links on grids, with papers."""
