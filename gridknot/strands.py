@@ -49,6 +49,23 @@ def is_between(value, one, other):
     return one < value < other or other < value < one
 
 
+def between(one, other):
+    """The numbers strictly between the two, in their order from one to other."""
+    if one < other:
+        return list(range(one + 1, other))
+    return list(range(one - 1, other, -1))
+
+
+def courses(grid):
+    """For each row the column of its O, the columns that cross it in their order from there, and that of its X."""
+    x_columns = columns_by_row(grid.xs)
+    o_columns = columns_by_row(grid.ohs)
+    found = []
+    for r, (a, b) in enumerate(zip(o_columns, x_columns)):
+        found.append((a, [c for c in between(a, b) if is_between(r, grid.xs[c], grid.ohs[c])], b))
+    return found
+
+
 def crossings(grid):
     """The pairs (i, r) of a column and a row that cross, by i, then r."""
     size = len(grid)

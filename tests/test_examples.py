@@ -4,9 +4,17 @@ import importlib
 import inspect
 import unittest
 
+from gridknot.alexander import alexander
+from gridknot.alike import alike_holds, search_alike
+from gridknot.brackets import bracket, kept_bracket
+from gridknot.colours import colourings, colours_claim, colours_holds, is_colouring
 from gridknot.errors import InvalidGrid, InvalidMove, InvalidNumber, InvalidText, KnotError, Undefined
 from gridknot.grids import Grid, o_column, read_grid, x_column
+from gridknot.making import beside, doubled, mirrored, summed, tipped, turned_about, upside_down
+from gridknot.moves import led, moved, moves_open, way_back
+from gridknot.series import is_series, series_at, series_plus, series_text, series_times
 from gridknot.strands import crossings, linkings, ring_of, rings, sign_at, twist
+from gridknot.ways import ways
 
 INTERFACE = {
     "errors": {
@@ -34,6 +42,49 @@ INTERFACE = {
         "sign_at": ("grid", "i", "r"),
         "twist": ("grid",),
         "linkings": ("grid",),
+    },
+    "moves": {
+        "moved": ("grid", "move"),
+        "moves_open": ("grid",),
+        "led": ("grid", "moves"),
+        "way_back": ("grid", "move"),
+    },
+    "alike": {
+        "alike_holds": ("grid", "claim", "paper"),
+        "search_alike": ("grid", "other", "depth"),
+    },
+    "making": {
+        "mirrored": ("grid",),
+        "tipped": ("grid",),
+        "turned_about": ("grid",),
+        "upside_down": ("grid",),
+        "beside": ("one", "other"),
+        "summed": ("one", "i", "other", "j"),
+        "doubled": ("grid",),
+    },
+    "colours": {
+        "is_colouring": ("grid", "p", "value"),
+        "colourings": ("grid", "p"),
+        "colours_claim": ("grid", "p"),
+        "colours_paper": ("grid", "p"),
+        "colours_holds": ("grid", "claim", "paper"),
+    },
+    "ways": {
+        "ways": ("grid", "m"),
+    },
+    "series": {
+        "is_series": ("value",),
+        "series_plus": ("a", "b"),
+        "series_times": ("a", "b"),
+        "series_at": ("a", "top", "bottom"),
+        "series_text": ("a", "name"),
+    },
+    "alexander": {
+        "alexander": ("grid",),
+    },
+    "brackets": {
+        "bracket": ("grid",),
+        "kept_bracket": ("grid",),
     },
 }
 
@@ -76,7 +127,10 @@ class Examples(unittest.TestCase):
     def test_rings(self):
         h = Grid((0, 1, 2), (1, 2, 0))
         b = Grid((0, 1, 2, 3), (1, 0, 3, 2))
-        self.assertEqual([rings(h), rings(b), ring_of(b, 3)], [((0, 1, 2),), ((0, 1), (2, 3)), 1])
+        d = doubled(Grid((0, 1), (1, 0)))
+        self.assertEqual(
+            [rings(h), rings(b), rings(d), ring_of(b, 3)], [((0, 1, 2),), ((0, 1), (2, 3)), ((0, 2), (1, 3)), 1]
+        )
 
     def test_crossings_and_signs(self):
         k = Grid((1, 3, 0, 4, 2), (3, 0, 4, 2, 1))
@@ -85,10 +139,8 @@ class Examples(unittest.TestCase):
         )
 
     def test_what_the_doubled_least_grid_tells(self):
-        # What the document's doubled makes of the least grid, written out.
-        d = Grid((0, 1, 2, 3), (2, 3, 0, 1))
+        d = doubled(Grid((0, 1), (1, 0)))
         b = Grid((0, 1, 2, 3), (1, 0, 3, 2))
-        self.assertEqual(rings(d), ((0, 2), (1, 3)))
         self.assertEqual(
             [crossings(d), twist(d), linkings(d), linkings(b)],
             [((1, 2), (2, 1)), -2, ((0, -1), (-1, 0)), ((0, 0), (0, 0))],
@@ -99,6 +151,133 @@ class Examples(unittest.TestCase):
             sign_at(Grid((0, 1, 2), (1, 2, 0)), 0, 0)
         self.assertEqual(caught.exception.what, "crossing")
 
+    def test_moves_that_never_grow(self):
+        h = Grid((0, 1, 2), (1, 2, 0))
+        self.assertEqual(
+            [moved(h, ("turn columns",)).pair(), moved(h, ("turn rows",)).pair(),
+             moved(h, ("shrink column", 0)).pair()],
+            [((1, 2, 0), (2, 0, 1)), ((2, 0, 1), (0, 1, 2)), ((0, 1), (1, 0))],
+        )
+
+    def test_a_move_that_grows(self):
+        g = Grid((0, 1), (1, 0))
+        self.assertEqual(moved(g, ("grow column", 0, 0, "up")).pair(), ((0, 1, 2), (1, 2, 0)))
+
+    def test_the_moves_open(self):
+        h = Grid((0, 1, 2), (1, 2, 0))
+        self.assertEqual(
+            moves_open(h),
+            (("turn columns",), ("turn rows",), ("shrink column", 0), ("shrink column", 1), ("shrink row", 1),
+             ("shrink row", 2)),
+        )
+
+    def test_a_move_that_cannot_be_done(self):
+        with self.assertRaises(InvalidMove) as caught:
+            moved(Grid((0, 1), (1, 0)), ("shrink column", 0))
+        self.assertEqual(caught.exception.move, ("shrink column", 0))
+
+    def test_rows_of_moves_there_and_back(self):
+        g = Grid((0, 1), (1, 0))
+        h = Grid((0, 1, 2), (1, 2, 0))
+        self.assertEqual(
+            [led(g, (("grow column", 0, 0, "up"), ("shrink column", 0))) == g,
+             led(moved(h, ("turn rows",)), way_back(h, ("turn rows",))) == h],
+            [True, True],
+        )
+
+    def test_a_row_with_a_move_that_cannot_be_done(self):
+        with self.assertRaises(InvalidMove) as caught:
+            led(Grid((0, 1, 2), (1, 2, 0)), [("turn rows",), ("swap columns", 0)])
+        self.assertEqual(caught.exception.move, ("swap columns", 0))
+
+    def test_alike_grids(self):
+        g = Grid((0, 1), (1, 0))
+        h = Grid((0, 1, 2), (1, 2, 0))
+        self.assertEqual(
+            [alike_holds(g, ("alike", (0, 1, 2), (1, 2, 0)), (("grow column", 0, 0, "up"),)),
+             alike_holds(g, ("alike", (0, 1, 2), (1, 2, 0)), ()), search_alike(h, g, 1), search_alike(g, g, 0),
+             search_alike(g, h, 2)],
+            [True, False, (("shrink column", 0),), (), None],
+        )
+
+    def test_a_search_that_is_too_deep(self):
+        g = Grid((0, 1), (1, 0))
+        with self.assertRaises(InvalidNumber) as caught:
+            search_alike(g, g, 5)
+        self.assertEqual(caught.exception.value, 5)
+
+    def test_grids_made_of_one(self):
+        h = Grid((0, 1, 2), (1, 2, 0))
+        self.assertEqual(
+            [mirrored(h).pair(), tipped(h).pair(), turned_about(h).pair(), upside_down(h).pair()],
+            [((2, 1, 0), (0, 2, 1)), ((2, 0, 1), (0, 1, 2)), ((1, 2, 0), (0, 1, 2)), ((0, 1, 2), (2, 0, 1))],
+        )
+
+    def test_grids_made_of_two(self):
+        g = Grid((0, 1), (1, 0))
+        self.assertEqual(
+            [beside(g, g).pair(), summed(g, 0, g, 0).pair(), doubled(g).pair()],
+            [((0, 1, 2, 3), (1, 0, 3, 2)), ((0, 2, 1), (1, 0, 2)), ((0, 1, 2, 3), (2, 3, 0, 1))],
+        )
+
+    def test_a_sum_at_no_column(self):
+        g = Grid((0, 1), (1, 0))
+        with self.assertRaises(InvalidNumber) as caught:
+            summed(g, 0, g, 2)
+        self.assertEqual(caught.exception.value, 2)
+
+    def test_colourings(self):
+        k = Grid((1, 3, 0, 4, 2), (3, 0, 4, 2, 1))
+        b = Grid((0, 1, 2, 3), (1, 0, 3, 2))
+        g = Grid((0, 1), (1, 0))
+        self.assertEqual(
+            [colourings(k, 3), is_colouring(k, 3, (1, 1, 1, 1, 1)), is_colouring(k, 3, (0, 1, 1, 1, 1)),
+             colours_claim(b, 3), colours_holds(g, ("colours", 5, 5), (((1, 1),), (0,)))],
+            [3, True, False, ("colours", 3, 9), True],
+        )
+
+    def test_colourings_by_no_prime(self):
+        with self.assertRaises(InvalidNumber) as caught:
+            colourings(Grid((0, 1), (1, 0)), 4)
+        self.assertEqual(caught.exception.value, 4)
+
+    def test_ways(self):
+        g = Grid((0, 1), (1, 0))
+        h = Grid((0, 1, 2), (1, 2, 0))
+        self.assertEqual([ways(g, 1), ways(h, 2), ways(h, 3)], [1, 2, 6])
+
+    def test_ways_of_too_many_points(self):
+        with self.assertRaises(InvalidNumber) as caught:
+            ways(Grid((0, 1), (1, 0)), 4)
+        self.assertEqual(caught.exception.value, 4)
+
+    def test_series(self):
+        self.assertEqual(
+            [series_plus(((0, 1),), ((0, -1), (2, 3))), series_times(((0, 1), (1, 1)), ((0, 1), (1, -1))),
+             series_at(((0, 1), (1, 2)), 1, 2), series_at(((-1, 1),), 2, 3),
+             series_text(((-2, -1), (0, 3), (1, 2)), "t"), series_text((), "t"), is_series(((1, 0),))],
+            [((2, 3),), ((0, 1), (2, -1)), (2, 1), (3, 2), "-t^-2+3+2*t", "0", False],
+        )
+
+    def test_a_series_at_nothing(self):
+        with self.assertRaises(Undefined) as caught:
+            series_at(((0, 1),), 0, 1)
+        self.assertEqual(caught.exception.what, "value")
+
+    def test_alexander(self):
+        g = Grid((0, 1), (1, 0))
+        k = Grid((1, 3, 0, 4, 2), (3, 0, 4, 2, 1))
+        b = Grid((0, 1, 2, 3), (1, 0, 3, 2))
+        self.assertEqual([alexander(g), alexander(k), alexander(b)], [((0, 1),), ((0, 1),), ()])
+
+    def test_brackets(self):
+        g = Grid((0, 1), (1, 0))
+        b = Grid((0, 1, 2, 3), (1, 0, 3, 2))
+        k = Grid((1, 3, 0, 4, 2), (3, 0, 4, 2, 1))
+        self.assertEqual(
+            [bracket(g), bracket(b), kept_bracket(k)], [((0, 1),), ((-2, -1), (2, -1)), ((0, 1),)]
+        )
+
 
 class Interface(unittest.TestCase):
     def test_names_stand_in_their_files_with_their_parameters(self):
@@ -107,6 +286,7 @@ class Interface(unittest.TestCase):
             for name, parameters in names.items():
                 found = getattr(module, name)
                 self.assertEqual(found.__module__, "gridknot." + file)
+                self.assertEqual(found.__name__, name)
                 if parameters is not None:
                     self.assertEqual(tuple(inspect.signature(found).parameters), parameters)
 

@@ -7,11 +7,9 @@ from gridknot.errors import InvalidNumber, Undefined
 from gridknot.grids import Grid, o_column, x_column
 from gridknot.strands import crossings, linkings, ring_of, rings, sign_at, twist
 from support import (
-    FIVE, LEAST, LINKED, NO_INTEGERS, STEPS, TREFOIL, TWO_RINGS, all_grids, is_tuple_throughout,
+    CHAIN, FIVE, LEAST, LINKED, NO_INTEGERS, STEPS, TREFOIL, TWO_RINGS, all_grids, is_tuple_throughout,
 )
 
-# Three rings, each a square: the second is linked with both others, those not with one another.
-CHAIN = ((0, 1, 2, 3, 4, 5), (2, 4, 0, 5, 1, 3))
 THREE_APART = ((0, 1, 2, 3, 4, 5), (1, 0, 3, 2, 5, 4))
 
 
