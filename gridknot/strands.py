@@ -114,3 +114,9 @@ def linkings(grid):
             sums[upper][lower] += sign_of(grid, i, r)
             sums[lower][upper] += sign_of(grid, i, r)
     return tuple([tuple([total // 2 for total in row]) for row in sums])
+
+
+def linking_row(grid):
+    """The linking numbers of all two rings, each two once, sorted."""
+    told = linkings(grid)
+    return tuple(sorted([told[a][b] for b in range(len(told)) for a in range(b)]))

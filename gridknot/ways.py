@@ -11,6 +11,11 @@ PERMUTATIONS = {
 }
 
 
+def is_number_of_points(value):
+    """Whether permutations of that many points are counted."""
+    return is_number(value) and value in PERMUTATIONS
+
+
 def after(f, g):
     """The permutation f times g: f first, then g."""
     return tuple([g[k] for k in f])
@@ -97,6 +102,6 @@ def ways_from(rows, known, choices):
 
 def ways(grid, m):
     """How many ways there are into permutations of m points."""
-    if not is_number(m) or m not in PERMUTATIONS:
+    if not is_number_of_points(m):
         raise InvalidNumber(m)
     return ways_from(signed_courses(grid), [None] * len(grid), PERMUTATIONS[m])

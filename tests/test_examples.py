@@ -6,14 +6,18 @@ import unittest
 
 from gridknot.alexander import alexander
 from gridknot.alike import alike_holds, search_alike
+from gridknot.apart import apart_claim, apart_holds, apart_paper
 from gridknot.brackets import bracket, kept_bracket
 from gridknot.colours import colourings, colours_claim, colours_holds, is_colouring
 from gridknot.errors import InvalidGrid, InvalidMove, InvalidNumber, InvalidText, KnotError, Undefined
+from gridknot.families import family, family_moves, first_turn, least_size, parted_at, smallest
 from gridknot.grids import Grid, o_column, read_grid, x_column
 from gridknot.making import beside, doubled, mirrored, summed, tipped, turned_about, upside_down
 from gridknot.moves import led, moved, moves_open, way_back
+from gridknot.plain import ring_claim, ring_holds
 from gridknot.series import is_series, series_at, series_plus, series_text, series_times
 from gridknot.strands import crossings, linkings, ring_of, rings, sign_at, twist
+from gridknot.unlike import unlike_holds, unlike_paper
 from gridknot.ways import ways
 
 INTERFACE = {
@@ -85,6 +89,28 @@ INTERFACE = {
     "brackets": {
         "bracket": ("grid",),
         "kept_bracket": ("grid",),
+    },
+    "families": {
+        "first_turn": ("grid",),
+        "family": ("grid",),
+        "parted_at": ("grid",),
+        "least_size": ("grid",),
+        "smallest": ("grid",),
+        "family_moves": ("grid", "xs", "ohs"),
+    },
+    "plain": {
+        "ring_claim": ("grid",),
+        "ring_paper": ("grid",),
+        "ring_holds": ("grid", "claim", "paper"),
+    },
+    "apart": {
+        "apart_claim": ("grid",),
+        "apart_paper": ("grid",),
+        "apart_holds": ("grid", "claim", "paper"),
+    },
+    "unlike": {
+        "unlike_paper": ("grid", "other"),
+        "unlike_holds": ("grid", "claim", "paper"),
     },
 }
 
@@ -276,6 +302,65 @@ class Examples(unittest.TestCase):
         k = Grid((1, 3, 0, 4, 2), (3, 0, 4, 2, 1))
         self.assertEqual(
             [bracket(g), bracket(b), kept_bracket(k)], [((0, 1),), ((-2, -1), (2, -1)), ((0, 1),)]
+        )
+
+    def test_families(self):
+        g = Grid((0, 1), (1, 0))
+        h = Grid((0, 1, 2), (1, 2, 0))
+        self.assertEqual(
+            [first_turn(Grid((1, 0), (0, 1))).pair(), family(g), family(h)],
+            [((0, 1), (1, 0)), (((0, 1), (1, 0)),), (((0, 1), (1, 0)), ((0, 1, 2), (1, 2, 0)))],
+        )
+
+    def test_parted_and_smallest_grids(self):
+        b = Grid((0, 1, 2, 3), (1, 0, 3, 2))
+        h = Grid((0, 1, 2), (1, 2, 0))
+        self.assertEqual(
+            [parted_at(b), parted_at(h), least_size(h), smallest(h)[0]], [(2,), (), 2, ((0, 1), (1, 0))]
+        )
+
+    def test_no_place_of_the_family(self):
+        with self.assertRaises(Undefined) as caught:
+            family_moves(Grid((0, 1, 2), (1, 2, 0)), (1, 0), (0, 1))
+        self.assertEqual(caught.exception.what, "place")
+
+    def test_the_plain_ring(self):
+        h = Grid((0, 1, 2), (1, 2, 0))
+        self.assertEqual(
+            [ring_claim(h), ring_holds(h, ("ring",), (("shrink column", 0),)),
+             ring_holds(h, ("knotted",), ("colours", 3, (1, 1, 1)))],
+            [("ring",), True, False],
+        )
+
+    def test_no_claim_about_the_ring_of_two(self):
+        with self.assertRaises(Undefined) as caught:
+            ring_claim(Grid((0, 1, 2, 3), (1, 0, 3, 2)))
+        self.assertEqual(caught.exception.what, "rings")
+
+    def test_falling_apart(self):
+        b = Grid((0, 1, 2, 3), (1, 0, 3, 2))
+        d = doubled(Grid((0, 1), (1, 0)))
+        self.assertEqual(
+            [apart_claim(b), apart_holds(b, ("apart",), ((), 2)), apart_holds(b, ("apart",), ((), 1)), apart_claim(d),
+             apart_holds(d, ("together",), ("linked", ((0, 1),)))],
+            [("apart",), True, False, ("together",), True],
+        )
+
+    def test_one_ring_does_not_fall_apart(self):
+        with self.assertRaises(Undefined) as caught:
+            apart_paper(Grid((0, 1), (1, 0)))
+        self.assertEqual(caught.exception.what, "rings")
+
+    def test_unlike_grids(self):
+        g = Grid((0, 1), (1, 0))
+        h = Grid((0, 1, 2), (1, 2, 0))
+        b = Grid((0, 1, 2, 3), (1, 0, 3, 2))
+        d = doubled(Grid((0, 1), (1, 0)))
+        self.assertEqual(
+            [unlike_paper(g, b), unlike_paper(g, h), unlike_paper(d, b),
+             unlike_holds(d, ("unlike", (0, 1, 2, 3), (1, 0, 3, 2)), ("linkings",)),
+             unlike_holds(g, ("unlike", (0, 1, 2), (1, 2, 0)), ("colours", 3))],
+            [("rings",), None, ("linkings",), True, False],
         )
 
 
