@@ -1,4 +1,4 @@
-"""The examples of section 10 of the document, and the interface at its end, as far as they have landed."""
+"""The examples of section 10 of the document, and the interface at its end."""
 
 import importlib
 import inspect
@@ -8,15 +8,22 @@ from gridknot.alexander import alexander
 from gridknot.alike import alike_holds, search_alike
 from gridknot.apart import apart_claim, apart_holds, apart_paper
 from gridknot.brackets import bracket, kept_bracket
+from gridknot.claims import answer_of, claim_holds, is_claim, is_question, paper_of, refute
 from gridknot.colours import colourings, colours_claim, colours_holds, is_colouring
-from gridknot.errors import InvalidGrid, InvalidMove, InvalidNumber, InvalidText, KnotError, Undefined
+from gridknot.desk import Desk, same_state
+from gridknot.errors import (
+    InvalidClaim, InvalidDeed, InvalidGrid, InvalidMove, InvalidNumber, InvalidQuestion, InvalidText, KnotError,
+    NothingToUndo, Undefined,
+)
 from gridknot.families import family, family_moves, first_turn, least_size, parted_at, smallest
 from gridknot.grids import Grid, o_column, read_grid, x_column
+from gridknot.histories import paper_end, paper_holds, relived
 from gridknot.making import beside, doubled, mirrored, summed, tipped, turned_about, upside_down
 from gridknot.moves import led, moved, moves_open, way_back
 from gridknot.plain import ring_claim, ring_holds
 from gridknot.series import is_series, series_at, series_plus, series_text, series_times
 from gridknot.strands import crossings, linkings, ring_of, rings, sign_at, twist
+from gridknot.told import told, untold
 from gridknot.unlike import unlike_holds, unlike_paper
 from gridknot.ways import ways
 
@@ -111,6 +118,27 @@ INTERFACE = {
     "unlike": {
         "unlike_paper": ("grid", "other"),
         "unlike_holds": ("grid", "claim", "paper"),
+    },
+    "claims": {
+        "is_question": ("value",),
+        "answer_of": ("grid", "question"),
+        "paper_of": ("grid", "question"),
+        "is_claim": ("value",),
+        "claim_holds": ("grid", "claim", "paper"),
+        "refute": ("grid", "claim"),
+    },
+    "told": {
+        "told": ("value",),
+        "untold": ("text",),
+    },
+    "desk": {
+        "Desk": ("grid",),
+        "same_state": ("one", "other"),
+    },
+    "histories": {
+        "paper_holds": ("text",),
+        "paper_end": ("text",),
+        "relived": ("text",),
     },
 }
 
@@ -363,6 +391,121 @@ class Examples(unittest.TestCase):
             [("rings",), None, ("linkings",), True, False],
         )
 
+    def test_questions_and_claims(self):
+        self.assertEqual(
+            [is_question(("ways", 3)), is_question(("colours", 4)), is_claim(("linkings", (-1, -1, 0))),
+             is_claim(("rings", -1))],
+            [True, False, True, False],
+        )
+
+    def test_answers(self):
+        g = Grid((0, 1), (1, 0))
+        h = Grid((0, 1, 2), (1, 2, 0))
+        d = doubled(Grid((0, 1), (1, 0)))
+        self.assertEqual(
+            [answer_of(d, ("linkings",)), answer_of(d, ("ring",)), answer_of(g, ("apart",)), answer_of(h, ("ways", 3)),
+             answer_of(h, ("alexander",)), paper_of(d, ("ring",))],
+            [("linkings", (-1,)), ("rings", 2), ("rings", 1), ("ways", 3, 6), ("alexander", ((0, 1),)), ()],
+        )
+
+    def test_no_question(self):
+        with self.assertRaises(InvalidQuestion) as caught:
+            answer_of(Grid((0, 1), (1, 0)), ["ring"])
+        self.assertEqual(caught.exception.value, ["ring"])
+
+    def test_claims_hold_or_are_refuted(self):
+        h = Grid((0, 1, 2), (1, 2, 0))
+        b = Grid((0, 1, 2, 3), (1, 0, 3, 2))
+        self.assertEqual(
+            [claim_holds(h, ("rings", 1), ()), claim_holds(h, ("rings", 1), []), refute(h, ("knotted",))[0],
+             refute(h, ("rings", 1)), refute(b, ("ring",))],
+            [True, False, ("ring",), None, (("rings", 2), ())],
+        )
+
+    def test_no_claim(self):
+        with self.assertRaises(InvalidClaim) as caught:
+            refute(Grid((0, 1, 2), (1, 2, 0)), ("ring", 1))
+        self.assertEqual(caught.exception.value, ("ring", 1))
+
+    def test_texts_of_values(self):
+        self.assertEqual(
+            [told(((0, 1), (), "turn rows", (-5,))), untold('(1,("a",))')],
+            ['((0,1),(),"turn rows",(-5,))', (1, ("a",))],
+        )
+
+    def test_no_text_of_a_value(self):
+        with self.assertRaises(InvalidText):
+            untold("(1)")
+
+    def test_a_desk(self):
+        d = Desk(Grid((0, 1, 2), (1, 2, 0)))
+        a = d.watch(("rings",))
+        b = d.deed(("move", ("shrink column", 0)))
+        c = d.grid().pair()
+        e = d.deed(("put", (0, 1, 2, 3), (1, 0, 3, 2)))
+        self.assertEqual(
+            [a, b, c, e, len(d.done())],
+            [("rings", 1), ((("rings",), "kept", ("rings", 1)),), ((0, 1), (1, 0)),
+             ((("rings",), "changed", ("rings", 2)),), 2],
+        )
+
+    def test_a_deed_undone(self):
+        d = Desk(Grid((0, 1, 2), (1, 2, 0)))
+        a = d.deed(("mirror",))
+        b = d.done()
+        c = d.grid().pair()
+        e = d.undo()
+        self.assertEqual([a, b, c, e, d.done()], [(), (("mirror",),), ((2, 1, 0), (0, 2, 1)), (), ()])
+
+    def test_a_deed_that_cannot_be_done(self):
+        d = Desk(Grid((0, 1, 2), (1, 2, 0)))
+        with self.assertRaises(InvalidDeed) as caught:
+            d.deed(("put", (0, 1), (0, 1)))
+        self.assertEqual(caught.exception.value, ("put", (0, 1), (0, 1)))
+
+    def test_nothing_to_redo(self):
+        d = Desk(Grid((0, 1, 2), (1, 2, 0)))
+        with self.assertRaises(NothingToUndo) as caught:
+            d.redo()
+        self.assertEqual(caught.exception.deed, "redo")
+
+    def test_a_question_that_is_not_watched(self):
+        d = Desk(Grid((0, 1, 2), (1, 2, 0)))
+        with self.assertRaises(InvalidQuestion) as caught:
+            d.claim(("rings",))
+        self.assertEqual(caught.exception.value, ("rings",))
+
+    def test_the_history_of_a_desk(self):
+        d = Desk(Grid((0, 1), (1, 0)))
+        d.deed(("about",))
+        d.undo()
+        self.assertEqual(d.paper(), 'grid ((0,1),(1,0))\ndeed ("about",)\nundo')
+
+    def test_the_same_state(self):
+        d = Desk(Grid((0, 1, 2), (1, 2, 0)))
+        e = Desk(d.grid())
+        s = same_state(d, e)
+        d.watch(("rings",))
+        self.assertEqual([s, same_state(d, e)], [True, False])
+
+    def test_histories_that_hold_and_that_do_not(self):
+        self.assertEqual(
+            [paper_holds('grid ((0,1),(1,0))\nwatch ("rings",)\nclaim ("rings",1)\npaper ()'),
+             paper_holds('grid ((0,1),(1,0))\nwatch ("rings",)\nclaim ("rings",2)\npaper ()'), paper_holds("")],
+            [True, False, False],
+        )
+
+    def test_the_place_at_which_a_history_is_wrong(self):
+        text = "grid ((0,1),(1,0))\nundo"
+        with self.assertRaises(InvalidText) as caught:
+            paper_end(text)
+        self.assertEqual([caught.exception.text, caught.exception.at], [text, 19])
+
+    def test_the_end_of_a_history(self):
+        t = 'grid ((0,1),(1,0))\nwatch ("rings",)\nclaim ("rings",1)\npaper ()'
+        p = paper_end(t)
+        self.assertEqual([p[0].pair(), p[1], relived(t).paper() == t], [((0, 1), (1, 0)), (("rings",),), True])
+
 
 class Interface(unittest.TestCase):
     def test_names_stand_in_their_files_with_their_parameters(self):
@@ -378,6 +521,16 @@ class Interface(unittest.TestCase):
     def test_the_methods_of_a_grid_stand_in_its_class(self):
         for name in ("__init__", "__eq__", "__len__", "__str__", "pair"):
             self.assertTrue(inspect.isfunction(vars(Grid)[name]))
+
+    def test_the_methods_of_a_desk_stand_in_its_class(self):
+        for name, parameters in (
+            ("grid", ()), ("deed", ("deed",)), ("undo", ()), ("redo", ()), ("done", ()), ("watch", ("question",)),
+            ("leave", ("question",)), ("watched", ()), ("claim", ("question",)), ("paper_for", ("question",)),
+            ("paper", ()),
+        ):
+            method = vars(Desk)[name]
+            self.assertTrue(inspect.isfunction(method))
+            self.assertEqual(tuple(inspect.signature(method).parameters)[1:], parameters)
 
     def test_the_attributes_of_a_grid_are_set_when_it_is_made(self):
         self.assertEqual(vars(Grid([0, 1], [1, 0])), {"xs": (0, 1), "ohs": (1, 0)})

@@ -24,6 +24,12 @@ LIBRARY = {
     "collections": {"defaultdict"},
 }
 
+METHODS = set(
+    """append clear copy count endswith extend find get index insert isalnum isalpha isdigit islower isspace isupper items
+    join keys ljust lower lstrip partition pop remove replace reverse rfind rjust rpartition rsplit rstrip setdefault
+    split splitlines startswith strip update upper values zfill bit_length""".split()
+)
+
 NO_NODES = (
     ast.Global, ast.AsyncFunctionDef, ast.Await, ast.AsyncFor, ast.AsyncWith, ast.Import, ast.Div,
 )
@@ -88,6 +94,40 @@ class Language(unittest.TestCase):
                     if node.func.id in ("any", "all", "min", "max", "sum", "sorted"):
                         for argument in node.args:
                             self.assertNotIsInstance(argument, ast.GeneratorExp, (path, node.lineno))
+
+    def test_no_local_name_is_that_of_an_import_or_a_class(self):
+        for path, tree in package_trees():
+            barred = {alias.name for node in tree.body if isinstance(node, ast.ImportFrom) for alias in node.names}
+            barred |= {node.name for node in tree.body if isinstance(node, ast.ClassDef)}
+            for node in ast.walk(tree):
+                if isinstance(node, ast.FunctionDef):
+                    names = {argument.arg for argument in node.args.args}
+                    names |= {
+                        name.id for name in ast.walk(node)
+                        if isinstance(name, ast.Name) and isinstance(name.ctx, ast.Store)
+                    }
+                    self.assertEqual(names & barred, set(), (path, node.name))
+
+    def test_methods_are_own_or_listed(self):
+        own = {
+            method.name for _, tree in package_trees() for node in tree.body if isinstance(node, ast.ClassDef)
+            for method in node.body if isinstance(method, ast.FunctionDef)
+        }
+        for path, tree in package_trees():
+            for node in ast.walk(tree):
+                if isinstance(node, ast.Call) and isinstance(node.func, ast.Attribute):
+                    self.assertIn(node.func.attr, own | METHODS, (path, node.lineno))
+
+    def test_no_two_files_import_from_each_other(self):
+        imported = {
+            path.stem: {node.module.split(".")[1] for node in tree.body
+                        if isinstance(node, ast.ImportFrom) and node.module.startswith("gridknot.")}
+            for path, tree in package_trees()
+        }
+        while imported:
+            free = [file for file, others in imported.items() if not others & set(imported)]
+            self.assertTrue(free, sorted(imported))
+            imported = {file: others for file, others in imported.items() if file not in free}
 
     def test_words_that_are_barred(self):
         barred = re.compile(r"\b(type|typing|enum|Enum|Flag|namedtuple|open|input|law|register|elements|mro)\b")
