@@ -2,7 +2,7 @@
 
 from gridknot.errors import Undefined
 from gridknot.grids import Grid, columns_by_row
-from gridknot.kinds import is_plain, rises
+from gridknot.kinds import rises
 from gridknot.moves import pair_led, pair_moves
 from gridknot.turns import is_place, moves_to_place, partings, place_of
 
@@ -95,7 +95,7 @@ def smallest(grid):
 def family_moves(grid, xs, ohs):
     """A row of moves that never grow that leads to the place (xs, ohs) of the family."""
     place = (xs, ohs)
-    if not is_plain(place) or not is_place(place):
+    if not is_place(place):
         raise Undefined("place")
     found = reached(grid.pair())
     if place not in found:

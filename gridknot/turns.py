@@ -32,7 +32,8 @@ def moves_to_place(pair):
 
 
 def is_place(value):
-    """Whether the value, made of tuples, integers and words, is a place."""
+    """Whether the value, which may be any, is a place."""
+    # Lists may make a grid, too, but they are not equal to the tuples of its place.
     return is_tuple_of(value, 2) and makes_grid(value[0], value[1]) and place_of(value) == value
 
 

@@ -488,6 +488,14 @@ class SameState(unittest.TestCase):
             self.assertIs(same_state(one, other), False)
             self.assertIs(same_state(other, one), False)
 
+    def test_unlike_questions_with_one_answer(self):
+        one, other = watching(STEPS, ("rings",)), watching(STEPS, ("apart",))
+        self.assertEqual(one.claim(("rings",)), other.claim(("apart",)))
+        self.assertIs(same_state(one, other), False)
+        both, turned = watching(STEPS, ("rings",), ("apart",)), watching(STEPS, ("apart",), ("rings",))
+        self.assertIs(same_state(both, turned), False)
+        self.assertIs(same_state(one, both), False)
+
     def test_the_ways_to_a_state_do_not_count(self):
         one, other = watching(STEPS, ("ring",)), watching(STEPS, ("rings",), ("ring",))
         other.leave(("rings",))
